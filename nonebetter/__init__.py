@@ -1,0 +1,1 @@
+"""Nonebetter: plans of works, and papers that none is better."""

@@ -1,0 +1,159 @@
+"""The form of the package's own code: those rules of LANGUAGE.md that are plain to look up, not all of them."""
+
+import ast
+import builtins
+import pathlib
+import re
+import unittest
+
+FOLDER = pathlib.Path(__file__).resolve().parent.parent / "nonebetter"
+
+NODES = """Module Expr Assign AugAssign AnnAssign If While For Return Break Continue Pass Raise Try ExceptHandler
+FunctionDef Lambda ClassDef ImportFrom alias arguments arg keyword
+Constant List Tuple Dict Set BinOp UnaryOp BoolOp Compare IfExp Call Attribute Subscript Slice ListComp
+comprehension JoinedStr FormattedValue Name Load Store
+Add Sub Mult FloorDiv Mod Pow BitAnd BitOr BitXor LShift RShift Invert USub UAdd Not And Or
+Eq NotEq Lt LtE Gt GtE Is IsNot In NotIn""".split()
+
+OWN_NAMES = """len range enumerate zip min max sum abs sorted reversed int str bool list tuple dict set frozenset
+isinstance ord repr any all divmod Exception ValueError TypeError KeyError IndexError LookupError ZeroDivisionError
+ArithmeticError OverflowError RuntimeError NotImplementedError AttributeError StopIteration""".split()
+
+METHODS = """append clear copy count endswith extend find get index insert isalnum isalpha isdigit islower isspace
+isupper items join keys ljust lower lstrip partition pop remove replace reverse rfind rjust rpartition rsplit rstrip
+setdefault split splitlines startswith strip update upper values zfill bit_length __init__""".split()
+
+WORDS = """type typing typing_extensions enum Enum IntEnum StrEnum Flag IntFlag Generic Protocol ABC ABCMeta namedtuple
+NamedTuple TypedDict TYPE_CHECKING abstractmethod""".split()
+
+PARTS_OF_WORDS = ("dataclass", "overload", "contextmanager")
+
+
+def package_files():
+    return sorted(path for path in FOLDER.rglob("*") if "__pycache__" not in path.parts)
+
+
+def faults_of_text(text):
+    lines = text.split("\n")
+    faults = [f"L10 line {number} is too long" for number, line in enumerate(lines, 1) if len(line) > 120]
+    if len(text.splitlines()) > 400:
+        faults.append("L10 the file is too long")
+    if re.search(r"[^\n -~]", text):
+        faults.append("L14 a sign that is not free")
+    faults += [f"L17 the word {word}" for word in WORDS if re.search(rf"\b{word}\b", text)]
+    return faults + [f"L17 the word {part}" for part in PARTS_OF_WORDS if part in text]
+
+
+def faults_of_name(name, line):
+    if not re.fullmatch(r"[A-Za-z][A-Za-z0-9_]*", name) and name not in ("__init__", "__all__", "__version__"):
+        return [f"L12 line {line}: the name {name}"]
+    if name in dir(builtins) and name not in OWN_NAMES:
+        return [f"L8 line {line}: the name {name}"]
+    return []
+
+
+def faults_of_bound(name, line):
+    if name in dir(builtins):
+        return [f"L15 line {line}: {name} is given another meaning"]
+    return faults_of_name(name, line)
+
+
+def faults_of_def(node):
+    faults = []
+    if node.end_lineno - node.lineno >= 40:
+        faults.append(f"L10 line {node.lineno}: {node.name} is too long")
+    if node.decorator_list:
+        faults.append(f"L4 line {node.lineno}: a decorator")
+    given = node.args
+    if given.vararg or given.kwarg or given.kwonlyargs or given.posonlyargs:
+        faults.append(f"L4 line {node.lineno}: parameters that are not plain")
+    return faults
+
+
+def faults_of_value(node):
+    if isinstance(node.value, (float, bytes, complex)) or node.value is ...:
+        return [f"L7 line {node.lineno}: {node.value!r}"]
+    if isinstance(node.value, str) and "%" in node.value:
+        return [f"L27 line {node.lineno}: a percent sign"]
+    return []
+
+
+def faults_of_node(node, own):
+    if isinstance(node, ast.ImportFrom):
+        plain = node.level == 0 and node.module.startswith("nonebetter.") and node.names[0].name != "*"
+        return [] if plain or node.module == "__future__" else [f"L2 line {node.lineno}: an import"]
+    if isinstance(node, ast.FunctionDef):
+        return faults_of_def(node)
+    if isinstance(node, ast.Constant):
+        return faults_of_value(node)
+    if isinstance(node, ast.arg):
+        return faults_of_bound(node.arg, node.lineno)
+    if isinstance(node, ast.Name):
+        bound = isinstance(node.ctx, ast.Store)
+        return faults_of_bound(node.id, node.lineno) if bound else faults_of_name(node.id, node.lineno)
+    if isinstance(node, ast.Attribute) and node.attr not in METHODS and node.attr not in own:
+        return [f"L25 line {node.lineno}: {node.attr}"]
+    if isinstance(node, (ast.For, ast.While)) and node.orelse or isinstance(node, ast.Try) and node.finalbody:
+        return [f"L6 line {node.lineno}: an else behind a loop, or finally"]
+    if isinstance(node, ast.Assign) and len(node.targets) > 1:
+        return [f"L6 line {node.lineno}: several targets"]
+    if isinstance(node, ast.ListComp) and (len(node.generators) > 1 or len(node.generators[0].ifs) > 1):
+        return [f"L7 line {node.lineno}: a comprehension with more than one for or if"]
+    if isinstance(node, ast.BinOp) and isinstance(node.op, ast.Pow) and not isinstance(node.right, ast.Constant):
+        return [f"L27 line {node.lineno}: an exponent that is not written"]
+    return []
+
+
+def faults_of_tree(tree, own):
+    faults = []
+    for node in ast.walk(tree):
+        name = node.__class__.__name__
+        if name not in NODES:
+            faults.append(f"L6, L7 line {getattr(node, 'lineno', 0)}: {name}")
+        faults += faults_of_node(node, own)
+    return faults
+
+
+def own_attributes(trees):
+    """Methods, and values that are given to an object, of all files."""
+    own = {}
+    for tree in trees:
+        for node in ast.walk(tree):
+            if isinstance(node, ast.ClassDef):
+                own.update({part.name: True for part in node.body if isinstance(part, ast.FunctionDef)})
+            if isinstance(node, ast.Attribute) and isinstance(node.ctx, ast.Store):
+                own[node.attr] = True
+    return own
+
+
+class Form(unittest.TestCase):
+    def test_files(self):
+        self.assertTrue((FOLDER / "__init__.py").is_file())
+        for path in package_files():
+            self.assertTrue(path.is_file(), f"L1 {path.name}")
+            self.assertRegex(path.name, r"\A([a-z][a-z0-9_]*|__init__|__main__)\.py\Z")
+
+    def test_texts_and_trees(self):
+        texts = {path.name: path.read_text("utf-8") for path in package_files()}
+        trees = {name: ast.parse(text) for name, text in texts.items()}
+        own = own_attributes(trees.values())
+        for name, text in texts.items():
+            self.assertEqual(faults_of_text(text) + faults_of_tree(trees[name], own), [], name)
+
+
+class FormOfFaults(unittest.TestCase):
+    """The looking itself: each of these is against a rule."""
+
+    def test_each_is_seen(self):
+        for text in (
+            "import os", "from os import path", "from .rows import kept", "x = 1 / 2", "x = 0.5", "x = b''",
+            "x = y = 1", "assert 1", "x = {1 for y in z}", "x = (y for y in z)", "x = open(y)", "sum = 1",
+            "def f(*given):\n    pass", "def f(len):\n    pass", "_x = 1", "x = chr(5)", "x = y.sort()",
+            "x = 2 ** y", "x = '%'", "for x in y:\n    pass\nelse:\n    pass", "# type", "x = 1\t",
+            "def f():\n" + "    pass\n" * 40, "x = 1\n" * 401, "#" * 121, "def f():\n    yield 1",
+        ):
+            self.assertNotEqual(faults_of_text(text) + faults_of_tree(ast.parse(text), {}), [], text[:60])
+
+
+if __name__ == "__main__":
+    unittest.main()
