@@ -28,6 +28,10 @@ NamedTuple TypedDict TYPE_CHECKING abstractmethod""".split()
 
 PARTS_OF_WORDS = ("dataclass", "overload", "contextmanager")
 
+WALKED = ("zip", "enumerate", "reversed", "range")
+WALKED_METHODS = ("items", "keys", "values")
+WALKERS = ("list", "tuple", "dict", "sorted", "sum", "any", "all", "enumerate", "zip")
+
 
 def package_files():
     return sorted(path for path in FOLDER.rglob("*") if "__pycache__" not in path.parts)
@@ -97,6 +101,8 @@ def faults_of_node(node, own):
         return [f"L6 line {node.lineno}: an else behind a loop, or finally"]
     if isinstance(node, ast.Assign) and len(node.targets) > 1:
         return [f"L6 line {node.lineno}: several targets"]
+    if isinstance(node, ast.Compare):
+        return faults_of_compare(node)
     if isinstance(node, ast.ListComp) and (len(node.generators) > 1 or len(node.generators[0].ifs) > 1):
         return [f"L7 line {node.lineno}: a comprehension with more than one for or if"]
     if isinstance(node, ast.BinOp) and isinstance(node.op, ast.Pow) and not isinstance(node.right, ast.Constant):
@@ -104,8 +110,73 @@ def faults_of_node(node, own):
     return []
 
 
-def faults_of_tree(tree, own):
+def is_walked(node):
+    called = node.func if isinstance(node, ast.Call) else None
+    if isinstance(called, ast.Name):
+        return called.id in WALKED
+    return isinstance(called, ast.Attribute) and called.attr in WALKED_METHODS
+
+
+def walks_at_once(parent, node):
+    if isinstance(parent, (ast.For, ast.comprehension)):
+        return parent.iter is node
+    if isinstance(parent, ast.Call) and isinstance(parent.func, ast.Name):
+        first = parent.args[:1] == [node]
+        return parent.func.id in WALKERS and first or parent.func.id in ("min", "max") and parent.args == [node]
+    return isinstance(parent, ast.Call) and getattr(parent.func, "attr", "") == "join"
+
+
+def faults_of_walks(tree):
     faults = []
+    for parent in ast.walk(tree):
+        for node in ast.iter_child_nodes(parent):
+            if is_walked(node) and not walks_at_once(parent, node):
+                faults.append(f"L23 line {node.lineno}: not walked at once")
+    return faults
+
+
+def faults_of_compare(node):
+    sides = [side for side in [node.left] + node.comparators if isinstance(side, ast.Constant)]
+    plain = any(side.value is None or isinstance(side.value, bool) for side in sides)
+    if not plain and any(isinstance(deed, (ast.Is, ast.IsNot)) for deed in node.ops):
+        return [f"L20 line {node.lineno}: is"]
+    return []
+
+
+def faults_of_names(trees):
+    """A name that is a method in one class and a value in another; of all files."""
+    methods = {}
+    given = {}
+    for tree in trees:
+        for node in ast.walk(tree):
+            if isinstance(node, ast.ClassDef):
+                methods.update({part.name: True for part in node.body if isinstance(part, ast.FunctionDef)})
+            if isinstance(node, ast.Attribute) and isinstance(node.ctx, ast.Store):
+                given[node.attr] = True
+    return [f"L18 the name {name}" for name in methods if name in given]
+
+
+def drawn_from(tree):
+    return [node.module.split(".")[-1] for node in tree.body if isinstance(node, ast.ImportFrom)]
+
+
+def faults_of_imports(trees):
+    """A name that its file does not define, and rings of imports; trees is a dict from the files' plain names."""
+    faults = []
+    for name, tree in trees.items():
+        for node in tree.body:
+            if isinstance(node, ast.ImportFrom):
+                there = [getattr(part, "name", "") for part in trees[node.module.split(".")[-1]].body]
+                faults += [f"L16 {name}: {part.name}" for part in node.names if part.name not in there or part.asname]
+        reached = drawn_from(tree)
+        for other in reached:
+            reached.extend(more for more in drawn_from(trees[other]) if more not in reached)
+        faults += [f"L16 {name} draws from itself"] if name in reached else []
+    return faults
+
+
+def faults_of_tree(tree, own):
+    faults = faults_of_walks(tree)
     for node in ast.walk(tree):
         name = node.__class__.__name__
         if name not in NODES:
@@ -139,6 +210,8 @@ class Form(unittest.TestCase):
         own = own_attributes(trees.values())
         for name, text in texts.items():
             self.assertEqual(faults_of_text(text) + faults_of_tree(trees[name], own), [], name)
+        plain = {name.rpartition(".")[0]: tree for name, tree in trees.items()}
+        self.assertEqual(faults_of_names(trees.values()) + faults_of_imports(plain), [])
 
 
 class FormOfFaults(unittest.TestCase):
@@ -151,8 +224,27 @@ class FormOfFaults(unittest.TestCase):
             "def f(*given):\n    pass", "def f(len):\n    pass", "_x = 1", "x = chr(5)", "x = y.sort()",
             "x = 2 ** y", "x = '%'", "for x in y:\n    pass\nelse:\n    pass", "# type", "x = 1\t",
             "def f():\n" + "    pass\n" * 40, "x = 1\n" * 401, "#" * 121, "def f():\n    yield 1",
+            "x = y is z", "x = y is not 1", "x = zip(y, z)", "f(range(3))", "x = list(reversed(range(3)))",
+            "x = d.items()", "x = zip(y, range(3))",
         ):
             self.assertNotEqual(faults_of_text(text) + faults_of_tree(ast.parse(text), {}), [], text[:60])
+
+    def test_each_of_several_files_is_seen(self):
+        method = ast.parse("class A:\n    def row(self):\n        pass")
+        value = ast.parse("class B:\n    def f(self):\n        self.row = 1")
+        self.assertNotEqual(faults_of_names([method, value]), [])
+        one = ast.parse("from nonebetter.other import f\ndef g():\n    pass")
+        other = ast.parse("from nonebetter.one import g\ndef f():\n    pass")
+        self.assertNotEqual(faults_of_imports({"one": one, "other": other}), [])
+        self.assertEqual(faults_of_imports({"one": one, "other": ast.parse("def f():\n    pass")}), [])
+        self.assertNotEqual(faults_of_imports({"one": one, "other": ast.parse("def h():\n    pass")}), [])
+
+    def test_what_is_not_against_a_rule(self):
+        for text in (
+            "x = y is None", "x = None is y", "x = list(zip(y, z))", "for x in range(3):\n    pass",
+            "x = [y for y in reversed(z)]", "x = min(range(3))", "x = sorted(d.items())",
+        ):
+            self.assertEqual(faults_of_text(text) + faults_of_tree(ast.parse(text), {"d": True}), [], text)
 
 
 if __name__ == "__main__":
