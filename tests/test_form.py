@@ -145,15 +145,8 @@ def faults_of_compare(node):
 
 def faults_of_names(trees):
     """A name that is a method in one class and a value in another; of all files."""
-    methods = {}
-    given = {}
-    for tree in trees:
-        for node in ast.walk(tree):
-            if isinstance(node, ast.ClassDef):
-                methods.update({part.name: True for part in node.body if isinstance(part, ast.FunctionDef)})
-            if isinstance(node, ast.Attribute) and isinstance(node.ctx, ast.Store):
-                given[node.attr] = True
-    return [f"L18 the name {name}" for name in methods if name in given]
+    given = given_values(trees)
+    return [f"L18 the name {name}" for name in methods_of(trees) if name in given]
 
 
 def drawn_from(tree):
@@ -185,16 +178,15 @@ def faults_of_tree(tree, own):
     return faults
 
 
-def own_attributes(trees):
-    """Methods, and values that are given to an object, of all files."""
-    own = {}
-    for tree in trees:
-        for node in ast.walk(tree):
-            if isinstance(node, ast.ClassDef):
-                own.update({part.name: True for part in node.body if isinstance(part, ast.FunctionDef)})
-            if isinstance(node, ast.Attribute) and isinstance(node.ctx, ast.Store):
-                own[node.attr] = True
-    return own
+def methods_of(trees):
+    classes = [node for tree in trees for node in ast.walk(tree) if isinstance(node, ast.ClassDef)]
+    return [part.name for node in classes for part in node.body if isinstance(part, ast.FunctionDef)]
+
+
+def given_values(trees):
+    """The values that are given to an object."""
+    attributes = [node for tree in trees for node in ast.walk(tree) if isinstance(node, ast.Attribute)]
+    return [node.attr for node in attributes if isinstance(node.ctx, ast.Store)]
 
 
 class Form(unittest.TestCase):
@@ -207,7 +199,7 @@ class Form(unittest.TestCase):
     def test_texts_and_trees(self):
         texts = {path.name: path.read_text("utf-8") for path in package_files()}
         trees = {name: ast.parse(text) for name, text in texts.items()}
-        own = own_attributes(trees.values())
+        own = methods_of(trees.values()) + given_values(trees.values())
         for name, text in texts.items():
             self.assertEqual(faults_of_text(text) + faults_of_tree(trees[name], own), [], name)
         plain = {name.rpartition(".")[0]: tree for name, tree in trees.items()}
@@ -227,7 +219,7 @@ class FormOfFaults(unittest.TestCase):
             "x = y is z", "x = y is not 1", "x = zip(y, z)", "f(range(3))", "x = list(reversed(range(3)))",
             "x = d.items()", "x = zip(y, range(3))",
         ):
-            self.assertNotEqual(faults_of_text(text) + faults_of_tree(ast.parse(text), {}), [], text[:60])
+            self.assertNotEqual(faults_of_text(text) + faults_of_tree(ast.parse(text), []), [], text[:60])
 
     def test_each_of_several_files_is_seen(self):
         method = ast.parse("class A:\n    def row(self):\n        pass")
@@ -244,7 +236,7 @@ class FormOfFaults(unittest.TestCase):
             "x = y is None", "x = None is y", "x = list(zip(y, z))", "for x in range(3):\n    pass",
             "x = [y for y in reversed(z)]", "x = min(range(3))", "x = sorted(d.items())",
         ):
-            self.assertEqual(faults_of_text(text) + faults_of_tree(ast.parse(text), {"d": True}), [], text)
+            self.assertEqual(faults_of_text(text) + faults_of_tree(ast.parse(text), []), [], text)
 
 
 if __name__ == "__main__":
