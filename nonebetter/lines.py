@@ -31,9 +31,9 @@ def sum_row(count, parts):
 
 
 def share_row(row, by):
-    """The row divided by a number that divides all of its numbers, the least rounded up."""
+    """The row divided by a number, its numbers (where they are no multiples) and its least rounded up."""
     # Two changes of sign, for // rounds down.
-    return (tuple([number // by for number in row[0]]), -(-row[1] // by))
+    return (tuple([-(-number // by) for number in row[0]]), -(-row[1] // by))
 
 
 def shut_row(count, holds):
@@ -86,3 +86,38 @@ class Sheet:
             line = ("given", number) if number < self.rows else ("better",)
             self.places[number] = self.put(line)
         return self.places[number]
+
+
+def named_by(line):
+    """The numbers of the lines that a line names."""
+    if line[0] == "sum":
+        return [place for place, many in line[1]]
+    if line[0] in ("share", "shut"):
+        return [line[1]]
+    return list(line[1:3]) if line[0] == "either" else []
+
+
+def renumbered(line, places):
+    """The line with the lines that it names called by their places."""
+    if line[0] == "sum":
+        return ("sum", [(places[place], many) for place, many in line[1]])
+    if line[0] in ("share", "shut"):
+        return (line[0], places[line[1]], line[2])
+    if line[0] == "either":
+        return ("either", places[line[1]], places[line[2]], line[3])
+    return line
+
+
+def trimmed(lines):
+    """The lines on which the last one rests, and this one, numbered anew."""
+    wanted = {len(lines) - 1: True}
+    for number in range(len(lines) - 1, -1, -1):
+        if number in wanted:
+            for other in named_by(lines[number]):
+                wanted[other] = True
+    places = {}
+    told = []
+    for number in sorted(wanted):
+        places[number] = len(told)
+        told.append(renumbered(lines[number], places))
+    return told

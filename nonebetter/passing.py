@@ -62,11 +62,8 @@ def steps_needed(rows, forced, broken):
     return list(reversed(steps))
 
 
-def put_shut_out(sheet, rows, holds, outcome):
-    """Writes lines whose last one tells the shut-out of holds from which passing on had a broken outcome."""
-    forced = outcome[0]
-    broken = outcome[1]
-    steps = steps_needed(rows, forced, broken)
+def put_steps(sheet, holds, steps, broken):
+    """Writes lines whose last one tells the shut-out of holds that force the steps, with which a row is broken."""
     held = list(holds) + [(choice, worth) for choice, worth, number in steps]
     source = sheet.line_of(broken)
     last = sheet.put(("shut", source, list(held)))
@@ -88,6 +85,8 @@ def passed_lines(problem, best, holds):
     outcome = passed(rows, holds)
     if outcome[1] is None:
         return None
+    forced = outcome[0]
+    broken = outcome[1]
     sheet = Sheet(len(problem[0]))
-    put_shut_out(sheet, rows, holds, outcome)
+    put_steps(sheet, holds, steps_needed(rows, forced, broken), broken)
     return sheet.lines

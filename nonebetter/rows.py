@@ -6,6 +6,11 @@ def weighed(numbers, point):
     return sum([number * worth for number, worth in zip(numbers, point)])
 
 
+def parts_of(row):
+    """The tuples (choice, number) of the row's numbers that are not 0."""
+    return [(choice, number) for choice, number in enumerate(row[0]) if number != 0]
+
+
 def kept(row, point):
     """Whether the point keeps the row."""
     return weighed(row[0], point) >= row[1]

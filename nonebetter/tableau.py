@@ -10,7 +10,12 @@ At each corner of the way no column can be moved off its end to a lesser cost; o
 may be broken. The first corner that breaks none is the one looked for. A row's price there is its multiplier.
 
 A thing is the number of a choice, or the count of choices and the number of a row, for the row's room.
+
+A choice may be held at 0 or 1: then this worth is both of its ends, and its column is not moved. From a corner that
+was found one goes on to that of more rows or more holds: it is not begun anew.
 """
+
+from nonebetter.rows import parts_of
 
 # After so many steps on end that gain nothing, steps are taken by a slower rule that never leads in a ring.
 PATIENCE = 100
@@ -36,9 +41,13 @@ class Tableau:
 
     def __init__(self, rows, costs):
         self.size = len(costs)
-        self.parts = [[(choice, number) for choice, number in enumerate(row[0]) if number != 0] for row in rows]
-        self.leasts = [row[1] for row in rows]
-        self.weights = [max(1, sum([abs(number) for number in row[0]])) for row in rows]
+        self.parts = []
+        self.leasts = []
+        self.weights = []
+        for row in rows:
+            self.add_row(row)
+        self.held = {}
+        self.work = 0
         self.scale = 1
         self.outer = list(range(self.size))
         self.ones = [cost < 0 for cost in costs]
@@ -46,6 +55,41 @@ class Tableau:
         # Where prices are alike, those of other, unlike costs decide: else columns of price 0 would lead nowhere.
         unlike = [(choice + 1) * 7919 % 1009 + 1 for choice in range(self.size)]
         self.prices = [self.first_line(costs), self.first_line(unlike)]
+
+    def add_row(self, row):
+        """Puts a row behind the others."""
+        self.parts.append(parts_of(row))
+        self.leasts.append(row[1])
+        self.weights.append(max(1, sum([abs(number) for number in row[0]])))
+
+    def twin(self):
+        """Another tableau at the same corner, with the same rows and holds."""
+        other = Tableau([], [0] * self.size)
+        other.parts = list(self.parts)
+        other.leasts = list(self.leasts)
+        other.weights = list(self.weights)
+        other.held = dict(self.held)
+        other.scale = self.scale
+        other.outer = list(self.outer)
+        other.ones = list(self.ones)
+        for choice in self.inner:
+            other.inner[choice] = list(self.inner[choice])
+        other.prices = [list(prices) for prices in self.prices]
+        return other
+
+    def hold(self, choice, worth):
+        """Leaves a choice this worth alone."""
+        self.held[choice] = worth
+        if choice not in self.inner:
+            column = self.outer.index(choice)
+            if self.ones[column] != (worth == 1):
+                self.flip(column, [])
+
+    def is_over(self, limit, patience):
+        """Whether spreads cost more than the limit, or more was done here than the patience; None for neither."""
+        if limit is not None and self.prices[0][-1] > limit * self.scale:
+            return True
+        return patience is not None and self.work > patience
 
     def first_line(self, numbers):
         """The line of a sum of choices, so many times each, where all choices are outer ones."""
@@ -67,10 +111,19 @@ class Tableau:
         Rows are looked at only where no choice is broken: it keeps the inner choices, and so the numbers, few.
         """
         worths = self.worths()
-        lacks = [(choice, max(-worths[choice], worths[choice] - self.scale)) for choice in sorted(self.inner)]
+        lacks = [(choice, self.choice_lack(choice)) for choice in sorted(self.inner)]
         if all([lack <= 0 for choice, lack in lacks]):
             lacks = [(self.size + number, self.row_lack(number, worths)) for number in range(len(self.parts))]
         return [(thing, lack) for thing, lack in lacks if lack > 0]
+
+    def end(self, choice, side):
+        """The end of a choice that is broken where it is to go to a side: its lesser one for 1; times the scale."""
+        return self.held.get(choice, 1 if side == -1 else 0) * self.scale
+
+    def choice_lack(self, choice):
+        """By how much an inner choice is beyond one of its ends, times the scale."""
+        worth = self.inner[choice][-1]
+        return max(self.end(choice, 1) - worth, worth - self.end(choice, -1))
 
     def row_lack(self, number, worths):
         """What a row's sum lacks to its least, times the scale."""
@@ -95,15 +148,14 @@ class Tableau:
         return self.weights[thing - self.size]
 
     def side(self, thing):
-        """-1 for a choice above 1, which is to become less; 1 for things that are to become more."""
-        return -1 if thing < self.size and self.inner[thing][-1] > self.scale else 1
+        """-1 for a choice above its ends, which is to become less; 1 for things that are to become more."""
+        return -1 if thing < self.size and self.inner[thing][-1] > self.end(thing, -1) else 1
 
     def line_to(self, thing, side):
         """The line of a broken thing, with what it is beyond its end as the last number."""
         if thing < self.size:
             line = list(self.inner[thing])
-            if side == -1:
-                line[-1] -= self.scale
+            line[-1] -= self.end(thing, side)
             return line
         line = [0] * (self.size + 1)
         many = [0] * self.size
@@ -121,6 +173,8 @@ class Tableau:
 
     def helps(self, number, column, side):
         """Whether moving the column, with this number in a line, off its end leads the line's thing to its side."""
+        if self.outer[column] in self.held:
+            return False
         if self.ones[column]:
             return number * side < 0
         return number * side > 0
@@ -142,11 +196,11 @@ class Tableau:
                 found = column
         return found
 
-    def flip(self, line, column):
-        """Moves a choice from its end to the other one, the line of a broken thing with the others."""
+    def flip(self, column, lines):
+        """Moves a choice from its end to the other one, in lines that are not kept here too."""
         sign = -1 if self.ones[column] else 1
-        for other in [self.inner[choice] for choice in self.inner] + self.prices + [line]:
-            other[-1] += sign * other[column]
+        for line in [self.inner[choice] for choice in self.inner] + self.prices + lines:
+            line[-1] += sign * line[column]
         self.ones[column] = not self.ones[column]
 
     def column_for(self, line, side, plain):
@@ -156,7 +210,7 @@ class Tableau:
         """
         column = self.nearest(line, side)
         while column is not None and not plain and self.is_too_little(line, column):
-            self.flip(line, column)
+            self.flip(column, [line])
             column = self.nearest(line, side)
         return column
 
@@ -170,6 +224,10 @@ class Tableau:
 
     def exchange(self, thing, line, column, side):
         """Puts a broken thing at its end, into the column; what was there becomes an inner choice, or a free row."""
+        one = self.end(thing, side) > 0
+        # About so many numbers are reckoned with in this step, long ones counted for several.
+        numbers = (len(self.inner) + 3) * self.size + len(self.parts) * len(self.inner)
+        self.work += numbers * (1 + self.scale.bit_length() // 64)
         self.inner.pop(thing, None)
         for choice in list(self.inner):
             self.inner[choice] = renewed(self.inner[choice], line, column, self.scale)
@@ -184,7 +242,7 @@ class Tableau:
             self.inner[freed] = numbers
         self.scale = abs(line[column])
         self.outer[column] = thing
-        self.ones[column] = side == -1
+        self.ones[column] = one
 
     def times(self, line, sign):
         """For each row the line's number at its column, with the sign; 0 for rows without one."""
@@ -202,17 +260,19 @@ class Tableau:
         return times
 
 
-def least_corner(rows, costs):
-    """A tuple (scale, times, worths): multipliers, and each choice's worth times the scale at a corner of least cost.
+def settle(tableau, limit, patience):
+    """Leads the tableau to the corner of least cost; tells multipliers, and each choice's worth times their scale.
 
-    Where no spread keeps the rows the scale is 0, and worths are None.
+    Worths are None where it comes to no such corner: where no spread keeps the rows with the holds, with a scale of 0;
+    where spreads cost more than the limit (None for none); or where the patience with steps (None: endless) is over.
     """
-    tableau = Tableau(rows, costs)
     idle = 0
     while True:
         lacks = tableau.lacks()
         if len(lacks) == 0:
             return (tableau.scale, tableau.times(tableau.prices[0], 1), tableau.worths())
+        if tableau.is_over(limit, patience):
+            return (tableau.scale, tableau.times(tableau.prices[0], 1), None)
         # The first thing of all, and no moves on the way: Bland's rule, which never leads in a ring.
         plain = idle >= PATIENCE
         thing = lacks[0][0] if plain else tableau.furthest(lacks)
@@ -223,3 +283,11 @@ def least_corner(rows, costs):
             return (0, tableau.times_against(thing, line, side), None)
         idle = idle + 1 if tableau.is_idle(column) else 0
         tableau.exchange(thing, line, column, side)
+
+
+def least_corner(rows, costs):
+    """A tuple (scale, times, worths): multipliers, and each choice's worth times the scale at a corner of least cost.
+
+    Where no spread keeps the rows the scale is 0, and worths are None.
+    """
+    return settle(Tableau(rows, costs), None, None)

@@ -10,6 +10,7 @@ import nonebetter.tableau
 from nonebetter.corners import bound, bound_lines, corner
 from nonebetter.judge import judged, rows_told
 from nonebetter.rows import cost_of, keeps, most_of
+from nonebetter.tableau import Tableau, settle
 
 GREAT = 10 ** 18 - 1
 
@@ -260,6 +261,94 @@ class SlowRule(CornerCase):
                 worths = self.assert_corner(rows, costs)
                 found.append(None if worths is None else summed(costs, worths))
             self.assertEqual(found, found[:1] * 3)
+
+
+class GoneOn(unittest.TestCase):
+    """Corners to which the way goes on from another corner, with more holds and more rows."""
+
+    def held_rows(self, count, holds):
+        return [
+            (tuple((1 if worth == 1 else -1) if other == choice else 0 for other in range(count)), worth)
+            for choice, worth in holds
+        ]
+
+    def assert_settled(self, table, rows, costs, holds, limit):
+        """That the table comes to what is told of the corner of the rows and the holds; tells whether it does."""
+        scale, times, worths = settle(table, limit, None)
+        least = corner(rows + self.held_rows(len(costs), holds), costs)[1]
+        self.assertEqual(len(times), len(rows))
+        self.assertTrue(all(many >= 0 for many in times))
+        numbers = tuple(
+            summed([row[0][choice] for row in rows], times) - scale * cost for choice, cost in enumerate(costs)
+        )
+        lowest = summed([row[1] for row in rows], times) - most_of((numbers, 0), holds)
+        if worths is None:
+            # The sum of the rows breaks, with that of points that cost no more than the limit where there is a scale.
+            self.assertGreater(lowest, scale * limit if scale > 0 else 0)
+            return False
+        cost = summed(costs, [Fraction(*part) for part in least])
+        spread = [Fraction(worth, scale) for worth in worths]
+        self.assertTrue(all(0 <= part <= 1 for part in spread))
+        self.assertTrue(all(spread[choice] == worth for choice, worth in holds))
+        self.assertTrue(all(summed(row[0], spread) >= row[1] for row in rows))
+        self.assertEqual(summed(costs, spread), cost)
+        self.assertEqual(lowest, scale * cost)
+        return True
+
+    def test_more_holds_and_more_rows(self):
+        chance = random.Random(50)
+        seen = {True: 0, False: 0}
+        for _ in range(400):
+            count = chance.randint(1, 7)
+            worths = [Fraction(chance.randint(0, 4), 4) for _ in range(count)]
+            size = chance.choice((1, 2, 9))
+            rows = rows_round(chance, worths, chance.randint(0, 6), size)
+            costs = tuple(chance.randint(-4, 4) for _ in range(count))
+            holds = []
+            table = Tableau(rows, costs)
+            before = table
+            for choice in chance.sample(range(count), count):
+                found = self.assert_settled(table, rows, costs, holds, chance.choice((None, None, 0, 9)))
+                seen[found] += 1
+                if not found:
+                    break
+                before = table
+                table = table.twin()
+                if chance.randint(0, 2) == 0:
+                    rows = rows + rows_round(chance, worths, 1, size)
+                    table.add_row(rows[-1])
+                    before.add_row(rows[-1])
+                # Held where it lies, or at the other end.
+                holds.append((choice, chance.randint(0, 1)))
+                table.hold(*holds[-1])
+            # The table that was gone on from is as it was.
+            self.assert_settled(before, rows, costs, holds[:-1], None)
+        self.assertGreater(min(seen.values()), 100)
+
+    def test_all_held(self):
+        chance = random.Random(51)
+        for _ in range(200):
+            count = chance.randint(0, 4)
+            rows = some_rows(chance, count, 3, 3)
+            costs = tuple(chance.randint(-4, 4) for _ in range(count))
+            for point in itertools.product((0, 1), repeat=count):
+                table = Tableau(rows, costs)
+                for choice, worth in enumerate(point):
+                    table.hold(choice, worth)
+                self.assertEqual(self.assert_settled(table, rows, costs, list(enumerate(point)), None),
+                                 keeps((rows, costs), point))
+
+    def test_where_patience_is_over(self):
+        rows = [((1, 1, 0), 1), ((0, 1, 1), 1), ((1, 0, 1), 1)]
+        self.assertIsNone(settle(Tableau(rows, (1, 1, 1)), None, -1)[2])
+        self.assertIsNone(settle(Tableau(rows, (1, 1, 1)), None, 0)[2])
+        self.assertIsNotNone(settle(Tableau(rows, (1, 1, 1)), None, 10 ** 6)[2])
+        # A corner without a step asks for none, and a limit that is just kept does not end the way.
+        self.assertIsNotNone(settle(Tableau(rows, (-1, -1, -1)), None, -1)[2])
+        ones = [((1, 0), 1), ((0, 1), 1)]
+        self.assertIsNotNone(settle(Tableau(ones, (4, 4)), 8, None)[2])
+        self.assertIsNotNone(settle(Tableau(ones, (4, 4)), 4, None)[2])
+        self.assertIsNone(settle(Tableau(ones, (4, 4)), 3, None)[2])
 
 
 class Sizes(CornerCase):

@@ -168,8 +168,54 @@ def faults_of_imports(trees):
     return faults
 
 
+def is_plain(node):
+    """A value that may stand at a file's top: a constant, a name, or a list, tuple or dict of these."""
+    if isinstance(node, ast.UnaryOp):
+        return isinstance(node.op, ast.USub) and isinstance(node.operand, ast.Constant)
+    if isinstance(node, (ast.List, ast.Tuple)):
+        return all(is_plain(part) for part in node.elts)
+    if isinstance(node, ast.Dict):
+        return all(is_plain(part) for part in node.keys + node.values)
+    return isinstance(node, (ast.Constant, ast.Name))
+
+
+def faults_of_top(tree):
+    faults = []
+    for node in tree.body:
+        plain = isinstance(node, (ast.ImportFrom, ast.FunctionDef, ast.ClassDef)) or is_docstring(node)
+        if not plain and not (isinstance(node, ast.Assign) and is_plain(node.value)):
+            faults.append(f"L3 line {node.lineno}: what stands at the top")
+    return faults
+
+
+def is_docstring(node):
+    return isinstance(node, ast.Expr) and isinstance(node.value, ast.Constant) and isinstance(node.value.value, str)
+
+
+def is_set(node):
+    if isinstance(node, ast.BinOp):
+        return is_set(node.left)
+    called = node.func if isinstance(node, ast.Call) else None
+    return isinstance(node, ast.Set) or isinstance(called, ast.Name) and called.id in ("set", "frozenset")
+
+
+def faults_of_sets(tree):
+    """Sets that stand elsewhere than beside in, == and !=, within sorted and len, or beside another one."""
+    faults = []
+    for parent in ast.walk(tree):
+        called = parent.func if isinstance(parent, ast.Call) else None
+        free = isinstance(called, ast.Name) and called.id in ("sorted", "len") and not parent.keywords
+        free = free or isinstance(parent, ast.BinOp)
+        if isinstance(parent, ast.Compare):
+            free = all(isinstance(deed, (ast.In, ast.NotIn, ast.Eq, ast.NotEq)) for deed in parent.ops)
+        for node in ast.iter_child_nodes(parent):
+            if is_set(node) and not free:
+                faults.append(f"L24 line {node.lineno}: a set that is kept or walked")
+    return faults
+
+
 def faults_of_tree(tree, own):
-    faults = faults_of_walks(tree)
+    faults = faults_of_walks(tree) + faults_of_top(tree) + faults_of_sets(tree)
     for node in ast.walk(tree):
         name = node.__class__.__name__
         if name not in NODES:
@@ -217,7 +263,9 @@ class FormOfFaults(unittest.TestCase):
             "x = 2 ** y", "x = '%'", "for x in y:\n    pass\nelse:\n    pass", "# type", "x = 1\t",
             "def f():\n" + "    pass\n" * 40, "x = 1\n" * 401, "#" * 121, "def f():\n    yield 1",
             "x = y is z", "x = y is not 1", "x = zip(y, z)", "f(range(3))", "x = list(reversed(range(3)))",
-            "x = d.items()", "x = zip(y, range(3))",
+            "x = d.items()", "x = zip(y, range(3))", "x = 10 ** 40", "x = f(1)", "f(1)", "x = [y]\nx.append(1)",
+            "def f(x):\n    return set(x)", "def f(x):\n    y = set(x) - set(z)", "def f(x):\n    return {1, x}",
+            "def f(x):\n    for y in set(x):\n        pass", "def f(x):\n    return list(set(x))",
         ):
             self.assertNotEqual(faults_of_text(text) + faults_of_tree(ast.parse(text), []), [], text[:60])
 
@@ -234,8 +282,12 @@ class FormOfFaults(unittest.TestCase):
     def test_what_is_not_against_a_rule(self):
         for text in (
             "x = y is None", "x = None is y", "x = list(zip(y, z))", "for x in range(3):\n    pass",
-            "x = [y for y in reversed(z)]", "x = min(range(3))", "x = sorted(d.items())",
+            "x = [y for y in reversed(z)]", "x = min(range(3))", "x = sorted(d.items())", "x = sorted(set(y) - set(z))",
+            "x = len(set(y))", "x = set(y) == set(z)", "x = y in set(z)",
         ):
+            inner = "def f(y, z, d):\n    " + text.replace("\n", "\n    ")
+            self.assertEqual(faults_of_text(inner) + faults_of_tree(ast.parse(inner), []), [], text)
+        for text in ('"""Words."""', "x = 1", "x = -1", "x = (1, 'y')", "x = {'y': (1, None)}", "def f():\n    pass\nx = [f]"):
             self.assertEqual(faults_of_text(text) + faults_of_tree(ast.parse(text), []), [], text)
 
 
