@@ -28,7 +28,7 @@ MEMORY = 600
 
 # How many numbers are reckoned with, about, on the way to one corner, and how many are looked at for likes. Where that
 # is not enough the search does without.
-CORNER_PATIENCE = 5000000
+CORNER_PATIENCE = 20000000
 LIKES_PATIENCE = 300000
 
 

@@ -69,7 +69,7 @@ def share_of_one(row, scale, worths):
     found = None
     spare = -lack(row, scale, worths)
     for by in dividers(row):
-        # No share by a number can make good for a row that can spare as much.
+        # Where a row can spare as much as the number, its share is kept too.
         if spare < by * scale:
             here = lack(share_row(row, by), scale, worths)
             if here > most:
@@ -145,7 +145,7 @@ def shares(rows, spread):
     worths = whole[1]
     found = single_shares(rows, scale, worths)
     for prime in PRIMES:
-        # The primes' shares are there only where the spread is not whole but for them.
+        # Others have none: the sum would be kept just so by the spread, and its least divided by the prime too.
         if scale % prime == 0:
             found += prime_shares(rows, scale, worths, prime)
     seen = {}
