@@ -2,31 +2,22 @@
 
 Each teller below is handed the problem, best, the rows told so far and a line with as many things as its word asks
 for. It tells the line's row, or None where the line is not right. Whatever stands in the line is looked at for its
-kind first: a paper may be written by anyone.
+kind first: a paper may be written by anyone. Among the rows told so far None stands for a line that is not right.
 """
 
+from nonebetter.kinds import is_number_of, is_pair, is_whole
 from nonebetter.lines import better_row, either_row, like_row, share_row, shut_row, single_row, sum_row, without
 from nonebetter.rows import most_of, turn_keeps
 
 
-def is_whole(thing):
-    """Whether a thing is a whole number: an int that is no truth."""
-    return isinstance(thing, int) and not isinstance(thing, bool)
+def is_ahead(thing, told):
+    """Whether a thing is the number of a line that told a row."""
+    return is_number_of(thing, len(told)) and told[thing] is not None
 
 
-def is_number_of(thing, count):
-    """Whether a thing is the number of one of so many, counted from 0."""
-    return is_whole(thing) and 0 <= thing < count
-
-
-def is_pair(thing):
-    """Whether a thing is a tuple of two things."""
-    return isinstance(thing, tuple) and len(thing) == 2
-
-
-def is_part(thing, count):
-    """Whether a thing is a part of a sum: the number of one of so many lines, and how many times."""
-    return is_pair(thing) and is_number_of(thing[0], count) and is_whole(thing[1]) and thing[1] >= 0
+def is_part(thing, told):
+    """Whether a thing is a part of a sum: the number of a line that told a row, and how many times."""
+    return is_pair(thing) and is_ahead(thing[0], told) and is_whole(thing[1]) and thing[1] >= 0
 
 
 def is_hold(thing, count):
@@ -83,7 +74,7 @@ def told_sum(problem, best, told, line):
     parts = line[1]
     if not isinstance(parts, list) or len(parts) == 0:
         return None
-    if not all([is_part(part, len(told)) for part in parts]):
+    if not all([is_part(part, told) for part in parts]):
         return None
     return sum_row(len(problem[1]), [(told[place], many) for place, many in parts])
 
@@ -91,7 +82,7 @@ def told_sum(problem, best, told, line):
 def told_share(problem, best, told, line):
     """A told row, divided."""
     by = line[2]
-    if not is_number_of(line[1], len(told)) or not is_whole(by) or by < 1:
+    if not is_ahead(line[1], told) or not is_whole(by) or by < 1:
         return None
     row = told[line[1]]
     if any([number % by != 0 for number in row[0]]):
@@ -103,7 +94,7 @@ def told_shut(problem, best, told, line):
     """The shut-out of holds with which a told row breaks."""
     count = len(problem[1])
     holds = line[2]
-    if not is_number_of(line[1], len(told)) or not are_holds(holds, count):
+    if not is_ahead(line[1], told) or not are_holds(holds, count):
         return None
     row = told[line[1]]
     if most_of(row, holds) >= row[1]:
@@ -114,7 +105,7 @@ def told_shut(problem, best, told, line):
 def told_either(problem, best, told, line):
     """What follows of one told row where a choice is 1, and of the other one where it is 0."""
     choice = line[3]
-    if not is_number_of(line[1], len(told)) or not is_number_of(line[2], len(told)):
+    if not is_ahead(line[1], told) or not is_ahead(line[2], told):
         return None
     if not is_number_of(choice, len(problem[1])):
         return None

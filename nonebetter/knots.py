@@ -10,12 +10,14 @@ but one of points alike, and learnt shut-outs are kept as rows.
 
 from nonebetter.branching import Branching
 from nonebetter.corners import lowest
+from nonebetter.judge import rows_told
 from nonebetter.likes import some_turns
-from nonebetter.lines import Sheet, like_row, share_row, single_row, sum_row, trimmed
+from nonebetter.lines import Sheet, like_row, share_row, single_row, sum_row
 from nonebetter.passing import put_steps
 from nonebetter.ratios import divisor, ratio
 from nonebetter.rows import cost_of, parts_of
-from nonebetter.shares import put_share, shares
+from nonebetter.shares import lack, put_share, shares
+from nonebetter.shorter import trimmed
 from nonebetter.tableau import Tableau, settle
 from nonebetter.trail import Trail
 
@@ -25,6 +27,11 @@ AT_ONCE = 12
 
 # How many learnt rows are kept: more of them slow passing on down.
 MEMORY = 600
+
+# How many rows of a paper that is gone on from are watched, and up to which numbers corners are made of them: greater
+# ones make the reckoning slow.
+TAKEN = 300
+GREATEST = 999999999999999999
 
 # How many numbers are reckoned with, about, on the way to one corner, and how many are looked at for likes. Where that
 # is not enough the search does without.
@@ -38,6 +45,22 @@ def common_part(numbers):
     for number in numbers:
         part = divisor(part, number)
     return max(1, part)
+
+
+def is_idle(row):
+    """Whether every point keeps the row."""
+    return sum([number for number in row[0] if number < 0]) >= row[1]
+
+
+def rows_of_use(problem, paper):
+    """Of the rows that right lines tell the shortest ones, as tuples (row, line); no row that says nothing new."""
+    known = dict([(row, True) for row in problem[0]])
+    found = []
+    for line, row in enumerate(rows_told(problem, None, paper)):
+        if row not in known and not is_idle(row):
+            known[row] = True
+            found.append((row, line))
+    return sorted(found, key=lambda pair: len(parts_of(pair[0])))[:TAKEN]
 
 
 class Knot:
@@ -70,6 +93,8 @@ class Knot:
         self.rounds = ROUNDS if "shares" in deeds else 0
         self.is_liked = "likes" not in deeds
         self.learnt = []
+        # Watched rows of a paper that was gone on from, with their numbers; corners are not made of them yet.
+        self.taken = []
         self.branching.begin_with(self.trail)
 
     def put_row(self, row):
@@ -83,6 +108,19 @@ class Knot:
         number = self.put_row(row)
         self.laid.append((row, number))
         return number
+
+    def take_over(self, paper):
+        """Begins the sheet with right lines, and watches some of their rows."""
+        for line in paper:
+            place = self.sheet.put(line)
+            if line[0] == "given":
+                self.sheet.places.setdefault(line[1], place)
+        for row, place in rows_of_use(self.problem, paper):
+            number = self.put_row(row)
+            self.sheet.places[number] = place
+            # Likes have great numbers too, and sums say less than what was made of them.
+            if paper[place][0] not in ("like", "sum") and self.trail.reaches[number] <= GREATEST:
+                self.taken.append((row, number))
 
     def better_row(self):
         """The row of points that cost no more than the limit."""
@@ -228,12 +266,23 @@ class Knot:
 
     def put_more_rows(self):
         """Puts in rows that help, ahead of branching: shares, and where no more of them are to be had, likes."""
+        if len(self.trail.asked) == 0 and self.spread is not None:
+            self.lay_taken()
         if len(self.trail.asked) == 0 and self.rounds > 0:
             self.rounds -= 1
             self.put_shares()
         if len(self.trail.asked) == 0 and not self.is_liked:
             self.is_liked = True
             self.put_likes()
+
+    def lay_taken(self):
+        """Makes corners of some rows taken over that the spread does not keep."""
+        lacking = [pair for pair in self.taken if lack(pair[0], self.spread[0], self.spread[1]) > 0][:AT_ONCE]
+        for row, number in lacking:
+            self.laid.append((row, number))
+            self.corners[-1][1].add_row(row)
+            self.trail.asked.append(number)
+        self.taken = [pair for pair in self.taken if pair not in lacking]
 
     def put_likes(self):
         """Puts in rows of turns that keep the problem."""
@@ -269,9 +318,15 @@ class Knot:
             self.corners[-1][1].add_row(row)
 
 
-def search(problem, deeds):
-    """A point of the least cost, its cost, and a paper that none is better; or None, None and a paper of no point."""
+def search_from(problem, deeds, paper):
+    """As search, from right lines of the problem, with which its own paper begins."""
     knot = Knot((list(problem[0]), problem[1]), list(deeds))
+    knot.take_over(paper)
     while not knot.done:
         knot.step()
-    return (knot.point, knot.best, trimmed(knot.sheet.lines))
+    return (knot.point, knot.best, trimmed(knot.sheet.lines, len(paper)))
+
+
+def search(problem, deeds):
+    """A point of the least cost, its cost, and a paper that none is better; or None, None and a paper of no point."""
+    return search_from(problem, deeds, [])

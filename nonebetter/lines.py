@@ -98,26 +98,13 @@ def named_by(line):
 
 
 def renumbered(line, places):
-    """The line with the lines that it names called by their places."""
+    """The line with the lines that it names called by their places; its lists are new ones."""
     if line[0] == "sum":
         return ("sum", [(places[place], many) for place, many in line[1]])
-    if line[0] in ("share", "shut"):
-        return (line[0], places[line[1]], line[2])
+    if line[0] == "share":
+        return ("share", places[line[1]], line[2])
+    if line[0] == "shut":
+        return ("shut", places[line[1]], list(line[2]))
     if line[0] == "either":
         return ("either", places[line[1]], places[line[2]], line[3])
-    return line
-
-
-def trimmed(lines):
-    """The lines on which the last one rests, and this one, numbered anew."""
-    wanted = {len(lines) - 1: True}
-    for number in range(len(lines) - 1, -1, -1):
-        if number in wanted:
-            for other in named_by(lines[number]):
-                wanted[other] = True
-    places = {}
-    told = []
-    for number in sorted(wanted):
-        places[number] = len(told)
-        told.append(renumbered(lines[number], places))
-    return told
+    return ("like", list(line[1])) if line[0] == "like" else line
