@@ -2,8 +2,7 @@
 
 from nonebetter.booked import choices, plan_of, problem_of
 from nonebetter.changes import carried, search_on
-
-DEEDS = ("corners", "shares", "likes", "learnt")
+from nonebetter.knots import DEEDS
 
 
 def brought_over(book, earlier):

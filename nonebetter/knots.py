@@ -21,6 +21,9 @@ from nonebetter.shorter import trimmed
 from nonebetter.tableau import Tableau, settle
 from nonebetter.trail import Trail
 
+# All that a search may use.
+DEEDS = ("corners", "shares", "likes", "learnt")
+
 # How often shares are looked for, and how many are put in at once: more of them slow the search down.
 ROUNDS = 6
 AT_ONCE = 12

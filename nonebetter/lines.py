@@ -108,3 +108,9 @@ def renumbered(line, places):
     if line[0] == "either":
         return ("either", places[line[1]], places[line[2]], line[3])
     return ("like", list(line[1])) if line[0] == "like" else line
+
+
+def copied(paper):
+    """The paper with lists of its own."""
+    places = list(range(len(paper)))
+    return [renumbered(line, places) for line in paper]

@@ -153,13 +153,19 @@ def drawn_from(tree):
     return [node.module.split(".")[-1] for node in tree.body if isinstance(node, ast.ImportFrom)]
 
 
+def defined_in(tree):
+    """The names that a file defines at its top: functions, classes and values."""
+    names = [part.name for part in tree.body if isinstance(part, (ast.FunctionDef, ast.ClassDef))]
+    return names + [part.targets[0].id for part in tree.body if isinstance(part, ast.Assign)]
+
+
 def faults_of_imports(trees):
     """A name that its file does not define, and rings of imports; trees is a dict from the files' plain names."""
     faults = []
     for name, tree in trees.items():
         for node in tree.body:
             if isinstance(node, ast.ImportFrom):
-                there = [getattr(part, "name", "") for part in trees[node.module.split(".")[-1]].body]
+                there = defined_in(trees[node.module.split(".")[-1]])
                 faults += [f"L16 {name}: {part.name}" for part in node.names if part.name not in there or part.asname]
         reached = drawn_from(tree)
         for other in reached:
@@ -276,7 +282,8 @@ class FormOfFaults(unittest.TestCase):
         one = ast.parse("from nonebetter.other import f\ndef g():\n    pass")
         other = ast.parse("from nonebetter.one import g\ndef f():\n    pass")
         self.assertNotEqual(faults_of_imports({"one": one, "other": other}), [])
-        self.assertEqual(faults_of_imports({"one": one, "other": ast.parse("def f():\n    pass")}), [])
+        for text in ("def f():\n    pass", "class f:\n    pass", "f = (1, 2)"):
+            self.assertEqual(faults_of_imports({"one": one, "other": ast.parse(text)}), [])
         self.assertNotEqual(faults_of_imports({"one": one, "other": ast.parse("def h():\n    pass")}), [])
 
     def test_what_is_not_against_a_rule(self):
